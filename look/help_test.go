@@ -65,6 +65,18 @@ func turnedObj(i int, do func(o *api.Obj)) api.Heap {
 	return turned(func(h *api.Heap) { do(&h.Objs[i]) })
 }
 
+// firsts are what object 0 may be: of each kind, with much, little, or nothing.
+func firsts() []api.Obj {
+	return []api.Obj{
+		{},
+		{Slots: []int{20, 101, 22, 103, 24}},
+		{Kind: 1},
+		{Kind: 1, Text: "a"},
+		{Kind: 2},
+		{Kind: 2, Bits: 4607182418800017408},
+	}
+}
+
 func mayNotBe() map[string]api.Heap {
 	obj := turnedObj
 	return map[string]api.Heap{
@@ -126,7 +138,8 @@ func isClassByWords(h api.Heap, c int) bool {
 		return false
 	}
 	s := h.Objs[c/2].Slots
-	return isRef(s[0]) && isRef(s[1]) && h.Objs[s[1]/2].Kind == 0 && s[2]%2 != 0 && s[2] >= 1 && s[2] <= 129
+	isDictionary := s[1] == 0 || isRef(s[1]) && h.Objs[s[1]/2].Kind == 0
+	return isRef(s[0]) && isDictionary && s[2]%2 != 0 && s[2] >= 1 && s[2] <= 129
 }
 
 // pairsByWords are those of a class, in their order.
@@ -222,7 +235,7 @@ func (s *spread) oneOf(first int, others ...int) int {
 	return others[s.below(len(others))]
 }
 
-// heap is one of n classes from object 1 on, and as many others behind them, mostly dictionaries of few selectors. Now and then something in a class is wrong.
+// heap is one of n classes from object 1 on, and as many others behind them, mostly dictionaries of few selectors. Now and then something in a class is wrong, or object 0 is a text or a float.
 func (s *spread) heap(n int) api.Heap {
 	h := api.Heap{Cap: 2*n + 1, Objs: make([]api.Obj, 2*n+1)}
 	anywhere := func() int { return 2 * s.below(2*n+1) }
@@ -240,6 +253,9 @@ func (s *spread) heap(n int) api.Heap {
 		}
 	}
 	h.Objs[0] = api.Obj{Slots: slices.Clone(h.Objs[n].Slots)}
+	if s.below(4) == 0 {
+		h.Objs[0] = firsts()[2+s.below(4)]
+	}
 	return h
 }
 

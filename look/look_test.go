@@ -42,14 +42,28 @@ func TestP9_MayOfEach(t *testing.T) {
 	}
 }
 
-// TestP9_MayOfFirst: object 0 may be a class, too; but a dictionary that is of no Kind Pointers is none, and be it object 0.
+// TestP9_MayOfFirst: object 0 may be a class, too; and as a dictionary it is an empty one, whatever it has, and of whatever kind.
 func TestP9_MayOfFirst(t *testing.T) {
 	first := func(o api.Obj) api.Heap { return turned(func(h *api.Heap) { h.Objs[0] = o }) }
 	wantMay(t, "object 0", first(api.Obj{Slots: []int{0, 0, 1}}), 0, true)
 	wantMay(t, "object 0", first(api.Obj{Slots: []int{0, 0, 131}}), 0, false)
+	for _, o := range firsts() {
+		wantMay(t, "dictionary of object 0", first(o), 8, true)
+		wantMay(t, "super of object 0", first(o), 6, true)
+		wantMay(t, "object 0", first(o), 0, false)
+	}
+}
+
+// TestP9_MayOfDictionary: any other object than object 0 must be of Kind Pointers, even if it has as little.
+func TestP9_MayOfDictionary(t *testing.T) {
 	for kind, want := range []bool{true, false, false} {
-		wantMay(t, "dictionary of object 0", first(api.Obj{Kind: kind}), 8, want)
-		wantMay(t, "super of object 0", first(api.Obj{Kind: kind}), 6, true)
+		h := turned(func(h *api.Heap) {
+			h.Objs[1].Slots[1] = 28
+			h.Objs[14] = api.Obj{Kind: kind}
+		})
+		wantMay(t, "an empty dictionary", h, 2, want)
+		wantUnder(t, "an empty dictionary", h, 2, 2, want)
+		wantUnder(t, "an empty dictionary", h, 8, 2, want)
 	}
 }
 
@@ -125,7 +139,7 @@ func TestP9_2_ByHand(t *testing.T) {
 		{4, 41, nothing(api.ErrNone)},
 		{6, 22, nothing(api.ErrNone)},
 		{6, 24, found{51, 6, api.OK}},
-		{8, 20, found{31, 2, api.OK}}, // object 0 is no dictionary
+		{8, 20, found{31, 2, api.OK}}, // what object 0 has does not count
 		{8, 26, found{0, 6, api.OK}},
 		{6, 101, nothing(api.ErrNone)},
 		{16, 20, found{31, 16, api.OK}},
@@ -181,6 +195,26 @@ func TestP9_2_NoDictionary(t *testing.T) {
 	wantFind(t, "object 0 is full", h, 8, 20, found{31, 2, api.OK})
 	h.Objs[4].Slots[0] = 0
 	wantFind(t, "object 0 is full", h, 8, 20, nothing(api.ErrNone))
+}
+
+// TestP9_2_FirstOfEachKind: one comes through a class with the dictionary of object 0 to those above it, of whatever kind object 0 is.
+func TestP9_2_FirstOfEachKind(t *testing.T) {
+	for _, o := range firsts() {
+		h := turned(func(h *api.Heap) {
+			h.Objs[0] = o
+			h.Objs[2].Slots[1] = 0
+		})
+		wantFind(t, "below", h, 8, 20, found{31, 2, api.OK})
+		wantFind(t, "between", h, 2, 24, found{51, 6, api.OK})
+		wantFind(t, "between", h, 4, 22, nothing(api.ErrNone))
+		h.Objs[3].Slots[1] = 0
+		wantFind(t, "above", h, 2, 22, found{33, 2, api.OK})
+		wantFind(t, "above", h, 2, 24, nothing(api.ErrNone))
+		for _, sel := range all() {
+			wantFind(t, "nothing but that", h, 4, sel, nothing(api.ErrNone))
+			wantFind(t, "nothing but that", h, 6, sel, nothing(api.ErrNone))
+		}
+	}
 }
 
 // TestP9_2_WholeDictionary: each pair counts, of a dictionary of any length.
@@ -253,6 +287,22 @@ func TestP9_3_First(t *testing.T) {
 		wantUnder(t, "object 0 is a class", h, 0, d, true)
 	}
 	wantUnder(t, "object 0 is a class", h, 0, 2, false)
+}
+
+// TestP9_3_FirstOfEachKind: a class with the dictionary of object 0 is under itself, and others are under it and by way of it, of whatever kind object 0 is.
+func TestP9_3_FirstOfEachKind(t *testing.T) {
+	for _, o := range firsts() {
+		h := turned(func(h *api.Heap) {
+			h.Objs[0] = o
+			h.Objs[2].Slots[1] = 0
+		})
+		above := map[int][]int{2: {2, 4, 6}, 4: {4, 6}, 6: {6}, 8: {8, 2, 4, 6}, 16: {16}, 18: {18}}
+		for _, c := range all() {
+			for _, d := range all() {
+				wantUnder(t, "an empty dictionary", h, c, d, slices.Contains(above[c], d))
+			}
+		}
+	}
 }
 
 // TestP9_3_SixtyFour: c is the first of 64.
